@@ -1,0 +1,1 @@
+"""Sumorder: sums over many names of products of parts."""

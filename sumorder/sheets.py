@@ -1,0 +1,100 @@
+"""Sheets: which things are sheets, parts and fillings, and what a filling is worth."""
+
+from sumorder.deeds import joined_worths, product
+from sumorder.errors import NoFilling
+
+MOST_NAMES = 12
+GREATEST_SIZE = 4
+MOST_FILLINGS = 4000
+MOST_PARTS = 24
+MOST_WORTHS = 2000
+GREATEST_WORTH = 10 ** 12
+
+
+def is_whole(thing, low, high):
+    """Tell of anything whether it is a whole number from low to high."""
+    # Python counts truths as integers, the document does not.
+    return isinstance(thing, int) and not isinstance(thing, bool) and low <= thing <= high
+
+
+def is_pair(thing):
+    """Tell of anything whether it is a tuple of two."""
+    return isinstance(thing, tuple) and len(thing) == 2
+
+
+def are_sizes(thing):
+    """Tell of anything whether it is the sizes of a sheet."""
+    if not isinstance(thing, tuple) or not 1 <= len(thing) <= MOST_NAMES:
+        return False
+    if not all(is_whole(size, 1, GREATEST_SIZE) for size in thing):
+        return False
+    return product(thing) <= MOST_FILLINGS
+
+
+def are_names(sizes, thing):
+    """Tell of anything whether it is a rising tuple of names."""
+    if not isinstance(thing, tuple):
+        return False
+    # The kinds go first: only numbers can be compared without an error.
+    if not all(is_whole(name, 0, len(sizes) - 1) for name in thing):
+        return False
+    return all(one < other for one, other in zip(thing, thing[1:]))
+
+
+def are_worths(many, thing):
+    """Tell of anything whether it is a tuple of so many worths of a part."""
+    if not isinstance(thing, tuple) or len(thing) != many:
+        return False
+    return all(is_whole(worth, -GREATEST_WORTH, GREATEST_WORTH) for worth in thing)
+
+
+def is_part(sizes, thing):
+    """Tell of anything whether it is a part for these sizes."""
+    if not is_pair(thing):
+        return False
+    names, worths = thing
+    if not are_names(sizes, names):
+        return False
+    return are_worths(product([sizes[name] for name in names]), worths)
+
+
+def are_parts(sizes, thing):
+    """Tell of anything whether it is the parts of a sheet with these sizes."""
+    if not isinstance(thing, tuple) or len(thing) > MOST_PARTS:
+        return False
+    if not all(is_part(sizes, part) for part in thing):
+        return False
+    return sum(len(part[1]) for part in thing) <= MOST_WORTHS
+
+
+def is_sheet(thing):
+    """Tell of anything whether it is a sheet."""
+    if not is_pair(thing):
+        return False
+    sizes, parts = thing
+    return are_sizes(sizes) and are_parts(sizes, parts)
+
+
+def is_filling(sizes, thing):
+    """Tell of anything whether it is a filling of names with these sizes."""
+    if not isinstance(thing, tuple) or len(thing) != len(sizes):
+        return False
+    return all(is_whole(worth, 0, size - 1) for worth, size in zip(thing, sizes))
+
+
+def worth_there(sizes, part, filling):
+    """Tell the part's worth at a filling."""
+    names, worths = part
+    # Worths stand in the sorted order of their tuples: the last name's worth changes fastest.
+    at = 0
+    for name in names:
+        at = at * sizes[name] + filling[name]
+    return worths[at]
+
+
+def worth_of(word, sheet, filling):
+    """Tell the filling's worth: all parts' worths there, joined; else NoFilling."""
+    sizes, parts = sheet
+    if not is_filling(sizes, filling):
+        raise NoFilling("no filling of this sheet")
+    return joined_worths(word, [worth_there(sizes, part, filling) for part in parts])
