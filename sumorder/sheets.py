@@ -2,6 +2,7 @@
 
 from sumorder.deeds import joined_worths, product
 from sumorder.errors import NoFilling
+from sumorder.helper import are_names, is_pair, is_whole, room
 
 MOST_NAMES = 12
 GREATEST_SIZE = 4
@@ -11,17 +12,6 @@ MOST_WORTHS = 2000
 GREATEST_WORTH = 10 ** 12
 
 
-def is_whole(thing, low, high):
-    """Tell of anything whether it is a whole number from low to high."""
-    # Python counts truths as integers, the document does not.
-    return isinstance(thing, int) and not isinstance(thing, bool) and low <= thing <= high
-
-
-def is_pair(thing):
-    """Tell of anything whether it is a tuple of two."""
-    return isinstance(thing, tuple) and len(thing) == 2
-
-
 def are_sizes(thing):
     """Tell of anything whether it is the sizes of a sheet."""
     if not isinstance(thing, tuple) or not 1 <= len(thing) <= MOST_NAMES:
@@ -29,16 +19,6 @@ def are_sizes(thing):
     if not all(is_whole(size, 1, GREATEST_SIZE) for size in thing):
         return False
     return product(thing) <= MOST_FILLINGS
-
-
-def are_names(sizes, thing):
-    """Tell of anything whether it is a rising tuple of names."""
-    if not isinstance(thing, tuple):
-        return False
-    # The kinds go first: only numbers can be compared without an error.
-    if not all(is_whole(name, 0, len(sizes) - 1) for name in thing):
-        return False
-    return all(one < other for one, other in zip(thing, thing[1:]))
 
 
 def are_worths(many, thing):
@@ -55,7 +35,7 @@ def is_part(sizes, thing):
     names, worths = thing
     if not are_names(sizes, names):
         return False
-    return are_worths(product([sizes[name] for name in names]), worths)
+    return are_worths(room(sizes, names), worths)
 
 
 def are_parts(sizes, thing):

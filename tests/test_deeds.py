@@ -3,9 +3,8 @@
 import unittest
 from itertools import permutations
 
+from by_hand import WORDS
 from sumorder.deeds import gathered_worths, joined_worths
-
-WORDS = ("sum", "most", "least", "wide", "any")
 
 
 class Joined(unittest.TestCase):

@@ -19,6 +19,7 @@ BARRED = re.compile(
     r"|dataclass|overload|contextmanager"
 )
 BARRED_STATEMENTS = (ast.Global, ast.AsyncFunctionDef, ast.AsyncFor, ast.AsyncWith, ast.Await)
+GENERATOR_SINKS = set("list tuple dict sorted sum min max any all join".split())
 UNCALLED_SINKS = set(
     "list tuple dict sorted sum any all enumerate zip bytes min max join len reversed".split()
 )
@@ -117,6 +118,57 @@ class Code(unittest.TestCase):
                         self.assertIn(callee, UNCALLED_SINKS, f"{name}:{node.lineno}")
             if isinstance(node, (ast.Assign, ast.Return)) and isinstance(node.value, ast.Call):
                 self.assertNotIn(getattr(node.value.func, "id", ""), lazy, f"{name}:{node.lineno}")
+
+    def test_generator_expressions_stand_where_they_may(self):
+        for name, node in nodes():
+            for child in ast.iter_child_nodes(node):
+                if isinstance(child, ast.GeneratorExp):
+                    self.assertIsInstance(node, ast.Call, f"{name}:{child.lineno}")
+                    callee = getattr(node.func, "id", getattr(node.func, "attr", ""))
+                    self.assertIn(callee, GENERATOR_SINKS, f"{name}:{child.lineno}")
+
+    def test_sets_are_sorted_counted_or_asked_at_once(self):
+        for name, node in nodes():
+            for child in ast.iter_child_nodes(node):
+                made = isinstance(child, ast.Call) and getattr(child.func, "id", "") == "set"
+                if made or isinstance(child, (ast.SetComp, ast.Set)):
+                    callee = getattr(getattr(node, "func", None), "id", "")
+                    right = isinstance(node, (ast.Compare, ast.BinOp)) or callee in ("sorted", "len")
+                    self.assertTrue(right, f"{name}:{child.lineno}")
+
+    def test_no_variable_is_called_like_an_import_or_a_class(self):
+        for path in files():
+            tree = ast.parse(path.read_text())
+            taken = {alias.asname or alias.name for node in tree.body
+                     if isinstance(node, ast.ImportFrom) for alias in node.names}
+            taken.update(node.name for node in tree.body if isinstance(node, ast.ClassDef))
+            for node in ast.walk(tree):
+                if isinstance(node, ast.arg):
+                    self.assertNotIn(node.arg, taken, f"{path.name}:{node.lineno}")
+                if isinstance(node, ast.Name) and isinstance(node.ctx, ast.Store):
+                    self.assertNotIn(node.id, taken, f"{path.name}:{node.lineno}")
+
+    def test_module_level_names_are_bound_once(self):
+        for path in files():
+            bound = []
+            for node in ast.parse(path.read_text()).body:
+                if isinstance(node, ast.ImportFrom):
+                    bound += [alias.asname or alias.name for alias in node.names]
+                if isinstance(node, (ast.FunctionDef, ast.ClassDef)):
+                    bound.append(node.name)
+                if isinstance(node, ast.Assign):
+                    bound += [target.id for target in node.targets]
+            self.assertEqual(len(bound), len(set(bound)), path.name)
+
+    def test_what_a_loop_goes_through_is_not_changed_in_it(self):
+        for name, node in nodes():
+            if isinstance(node, ast.For):
+                through = {part.id for part in ast.walk(node.iter) if isinstance(part, ast.Name)}
+                for part in ast.walk(ast.Module(node.body, [])):
+                    if isinstance(part, ast.Call) and isinstance(part.func, ast.Attribute):
+                        changed = part.func.attr in ("append", "pop", "insert", "remove", "extend", "clear")
+                        owner = getattr(part.func.value, "id", "")
+                        self.assertFalse(changed and owner in through, f"{name}:{part.lineno}")
 
 
 if __name__ == "__main__":

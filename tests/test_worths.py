@@ -2,14 +2,13 @@
 
 import unittest
 from copy import deepcopy
-from itertools import permutations, product
+from itertools import permutations
 
+import by_hand
+from by_hand import OF_NOTHING, WORDS, fillings
 from sumorder.errors import NoFilling
 from sumorder.sheets import worth_of
 from things import any_things, nested
-
-WORDS = ("sum", "most", "least", "wide", "any")
-OF_NOTHING = {"sum": 1, "most": 0, "least": 0, "wide": 10 ** 30, "any": 1}
 
 SHEETS = (
     ((2, 3), (((0, 1), (1, 2, 3, 4, 5, -6)), ((), (7,)))),
@@ -25,29 +24,6 @@ TRUE_SHEETS = (
     ((2, 2), (((0,), (0, 1)), ((1,), (1, 0)), ((), (1,)))),
     ((2, 2), (((0,), (1, 1)), ((), (0,)))),
 )
-
-
-def by_hand(word, sheet, filling):
-    """The filling's worth by a table for each part, joined two by two."""
-    sizes, parts = sheet
-    told = None
-    for names, worths in parts:
-        table = dict(zip(product(*[range(sizes[name]) for name in names]), worths))
-        worth = table[tuple(filling[name] for name in names)]
-        if told is None:
-            told = worth
-        elif word == "sum":
-            told = told * worth
-        elif word in ("most", "least"):
-            told = told + worth
-        else:
-            told = worth if worth < told else told
-    return OF_NOTHING[word] if told is None else told
-
-
-def fillings(sheet):
-    """The sheet's fillings."""
-    return product(*[range(size) for size in sheet[0]])
 
 
 class Worths(unittest.TestCase):
@@ -71,7 +47,7 @@ class Worths(unittest.TestCase):
         for word in WORDS:
             for sheet in TRUE_SHEETS + (() if word == "any" else SHEETS):
                 for filling in fillings(sheet):
-                    self.assertEqual(worth_of(word, sheet, filling), by_hand(word, sheet, filling))
+                    self.assertEqual(worth_of(word, sheet, filling), by_hand.worth(word, sheet, filling))
 
     def test_parts_that_have_some_of_the_names(self):
         sheet = ((2, 3, 4), (((0, 2), (10, 11, 12, 13, 20, 21, 22, 23)), ((1,), (1, 2, 3))))

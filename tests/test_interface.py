@@ -1,0 +1,46 @@
+"""Tests of the document's interface: its names and arguments, and what stages draw from lower ones."""
+
+import ast
+import inspect
+import unittest
+from importlib import import_module
+from pathlib import Path
+
+PACKAGE = Path(__file__).resolve().parent.parent / "sumorder"
+# The stages' modules as the interface lists them: a stage, and each function's arguments.
+MODULES = {
+    "sheets": (1, {
+        "is_part": "sizes thing", "is_sheet": "thing", "worth_of": "word sheet filling",
+    }),
+    "joins": (2, {
+        "joined": "word sizes one other", "gathered": "word sizes part name",
+        "settled": "sizes part name worth", "widened": "sizes part names",
+    }),
+    "wholes": (3, {"whole": "word sheet", "rest": "word sheet names"}),
+    "taking": (4, {"taken_out": "word sheet order", "whole_by": "word sheet order"}),
+}
+
+
+class Interface(unittest.TestCase):
+    def test_names_and_arguments(self):
+        for module, (stage, functions) in MODULES.items():
+            for name, handed in functions.items():
+                with self.subTest(module, function=name):
+                    function = getattr(import_module(f"sumorder.{module}"), name)
+                    self.assertEqual(list(inspect.signature(function).parameters), handed.split())
+                    self.assertEqual(function.__module__, f"sumorder.{module}")
+
+    def test_a_stage_draws_from_lower_ones_what_the_interface_lists(self):
+        for path in sorted(PACKAGE.glob("*.py")):
+            for node in ast.parse(path.read_text()).body:
+                if isinstance(node, ast.ImportFrom) and node.module.split(".")[-1] in MODULES:
+                    stage, functions = MODULES[node.module.split(".")[-1]]
+                    with self.subTest(path.name, drawn=node.module):
+                        # What stands beside the stages serves them all, so it draws from none.
+                        self.assertIn(path.stem, MODULES)
+                        self.assertLessEqual(stage, MODULES[path.stem][0])
+                        self.assertLessEqual({alias.name for alias in node.names}, set(functions))
+
+
+if __name__ == "__main__":
+    unittest.main()
