@@ -1,4 +1,4 @@
-"""What several stages need: kinds of things, and tables of worths."""
+"""What several stages need: kinds of things, tables of worths, ties between names."""
 
 from sumorder.deeds import joined_worths, product
 
@@ -91,3 +91,43 @@ def joined_parts(word, sizes, parts):
     wide = tuple(sorted({name for names, worths in parts for name in names}))
     columns = [spread(sizes, part, wide) for part in parts]
     return (wide, tuple(joined_worths(word, row) for row in zip(*columns)))
+
+
+def pairs_of(names):
+    """Tell all pairs of these names, in their order."""
+    return [(one, other) for at, one in enumerate(names) for other in names[at + 1:]]
+
+
+def ties_of(sheet):
+    """Tell, for each name, the rising tuple of the names that it is tied to."""
+    sizes, parts = sheet
+    tied = [{} for size in sizes]
+    for names, worths in parts:
+        for one, other in pairs_of(names):
+            tied[one][other] = True
+            tied[other][one] = True
+    return [tuple(sorted(others)) for others in tied]
+
+
+def tied_pairs(ties):
+    """Tell all pairs of names that are tied, the lesser name first."""
+    return [(one, other) for one, others in enumerate(ties) for other in others if one < other]
+
+
+def bag_along(ties, taken, name):
+    """Tell the bag of a name behind those taken out, by going along the ties."""
+    reached = {name: True}
+    ahead = [name]
+    while ahead:
+        at = ahead.pop()
+        for other in ties[at]:
+            if other not in reached:
+                reached[other] = True
+                if other in taken:
+                    ahead.append(other)
+    return tuple(sorted([other for other in reached if other not in taken]))
+
+
+def bags_along(ties, order):
+    """Tell the bag of each name of an order, behind those ahead of it."""
+    return [bag_along(ties, order[:at], name) for at, name in enumerate(order)]

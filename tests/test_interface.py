@@ -18,6 +18,15 @@ MODULES = {
     }),
     "wholes": (3, {"whole": "word sheet", "rest": "word sheet names"}),
     "taking": (4, {"taken_out": "word sheet order", "whole_by": "word sheet order"}),
+    "orders": (5, {
+        "bag_behind": "sheet taken name", "bags_of": "sheet order", "room_of": "sheet order",
+        "by_fewest": "sheet", "by_room": "sheet", "by_ties": "sheet",
+    }),
+    "floors": (5, {"least_room": "sheet", "are_floors": "sheet thing number"}),
+    "fresh": (5, {"no_new_ties": "sheet", "is_no_new": "sheet thing"}),
+    "bags": (6, {
+        "is_bag_tree": "sheet thing", "bag_tree": "sheet order", "tree_room": "sheet tree",
+    }),
 }
 
 
