@@ -1,8 +1,7 @@
 """Parts: two joined, one gathered over a name, settled at a worth, widened by names."""
 
-from sumorder.deeds import gathered_worths
 from sumorder.errors import NoFilling, NoName
-from sumorder.helper import are_names, is_name, is_whole, joined_parts, places, spread, without
+from sumorder.helper import are_names, gathered_to, is_name, is_whole, joined_parts, places, spread, without
 
 
 def joined(word, sizes, one, other):
@@ -27,8 +26,7 @@ def worths_at(sizes, part, name, worth):
 def gathered(word, sizes, part, name):
     """Tell the part without the name, gathered over all its worths; else NoName."""
     refuse_other_names(sizes, part, name)
-    columns = [worths_at(sizes, part, name, worth) for worth in range(sizes[name])]
-    return (without(part[0], name), tuple(gathered_worths(word, row) for row in zip(*columns)))
+    return gathered_to(word, sizes, part, without(part[0], name))
 
 
 def settled(sizes, part, name, worth):

@@ -1,8 +1,8 @@
-"""Sheets: which things are sheets, parts and fillings, and what a filling is worth."""
+"""Sheets: which things are sheets and parts, and what a filling is worth."""
 
 from sumorder.deeds import joined_worths, product
 from sumorder.errors import NoFilling
-from sumorder.helper import are_names, is_pair, is_whole, room
+from sumorder.helper import are_names, is_filling, is_pair, is_whole, place_of, room
 
 MOST_NAMES = 12
 GREATEST_SIZE = 4
@@ -55,26 +55,9 @@ def is_sheet(thing):
     return are_sizes(sizes) and are_parts(sizes, parts)
 
 
-def is_filling(sizes, thing):
-    """Tell of anything whether it is a filling of names with these sizes."""
-    if not isinstance(thing, tuple) or len(thing) != len(sizes):
-        return False
-    return all(is_whole(worth, 0, size - 1) for worth, size in zip(thing, sizes))
-
-
-def worth_there(sizes, part, filling):
-    """Tell the part's worth at a filling."""
-    names, worths = part
-    # Worths stand in the sorted order of their tuples: the last name's worth changes fastest.
-    at = 0
-    for name in names:
-        at = at * sizes[name] + filling[name]
-    return worths[at]
-
-
 def worth_of(word, sheet, filling):
     """Tell the filling's worth: all parts' worths there, joined; else NoFilling."""
     sizes, parts = sheet
     if not is_filling(sizes, filling):
         raise NoFilling("no filling of this sheet")
-    return joined_worths(word, [worth_there(sizes, part, filling) for part in parts])
+    return joined_worths(word, [worths[place_of(sizes, names, filling)] for names, worths in parts])

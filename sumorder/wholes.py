@@ -1,8 +1,7 @@
 """The whole of a sheet, and the rest of some of its names."""
 
 from sumorder.errors import NoName
-from sumorder.helper import all_names, are_names, joined_parts
-from sumorder.joins import gathered, widened
+from sumorder.helper import are_names, gathered_to, part_of_all
 
 
 def whole(word, sheet):
@@ -12,11 +11,7 @@ def whole(word, sheet):
 
 def rest(word, sheet, names):
     """Tell the part with these names, gathered over all fillings that have its worths; else NoName."""
-    sizes, parts = sheet
+    sizes = sheet[0]
     if not are_names(sizes, names):
         raise NoName("no rising tuple of names")
-    told = widened(sizes, joined_parts(word, sizes, parts), all_names(sizes))
-    for name in all_names(sizes):
-        if name not in names:
-            told = gathered(word, sizes, told, name)
-    return told
+    return gathered_to(word, sizes, part_of_all(word, sheet), names)

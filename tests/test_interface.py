@@ -1,4 +1,4 @@
-"""Tests of the document's interface: its names and arguments, and what stages draw from lower ones."""
+"""Tests of the document's interface: its names, methods and arguments, and what stages draw from lower ones."""
 
 import ast
 import inspect
@@ -7,7 +7,7 @@ from importlib import import_module
 from pathlib import Path
 
 PACKAGE = Path(__file__).resolve().parent.parent / "sumorder"
-# The stages' modules as the interface lists them: a stage, and each function's arguments.
+# The stages' modules as the interface lists them: a stage, and each function's or class's arguments.
 MODULES = {
     "sheets": (1, {
         "is_part": "sizes thing", "is_sheet": "thing", "worth_of": "word sheet filling",
@@ -27,6 +27,20 @@ MODULES = {
     "bags": (6, {
         "is_bag_tree": "sheet thing", "bag_tree": "sheet order", "tree_room": "sheet tree",
     }),
+    "letters": (7, {
+        "letters": "word sheet tree", "are_letters": "word sheet tree thing", "bag_rest": "word sheet tree i",
+    }),
+    "best": (8, {
+        "best": "word sheet", "how_many_best": "word sheet", "bound_by": "word sheet tree offers",
+    }),
+    "keeper": (9, {"Keeper": "word sheet tree"}),
+}
+# The classes' methods, with the arguments behind the object itself.
+METHODS = {
+    ("keeper", "Keeper"): {
+        "whole": "", "rest": "i", "put": "k worths", "settle": "name worth", "free": "name", "back": "",
+        "reckoned": "",
+    },
 }
 
 
@@ -38,6 +52,13 @@ class Interface(unittest.TestCase):
                     function = getattr(import_module(f"sumorder.{module}"), name)
                     self.assertEqual(list(inspect.signature(function).parameters), handed.split())
                     self.assertEqual(function.__module__, f"sumorder.{module}")
+
+    def test_methods_stand_in_their_class_itself(self):
+        for (module, name), methods in METHODS.items():
+            there = vars(getattr(import_module(f"sumorder.{module}"), name))
+            for method, handed in methods.items():
+                with self.subTest(module, method=method):
+                    self.assertEqual(list(inspect.signature(there[method]).parameters), ["self"] + handed.split())
 
     def test_a_stage_draws_from_lower_ones_what_the_interface_lists(self):
         for path in sorted(PACKAGE.glob("*.py")):
