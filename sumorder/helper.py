@@ -288,5 +288,6 @@ class Mail:
         self.owns[i] = own
         # A bag is on the sender's side of just those letters that go away from it.
         for receiver, sender in steps_to(self.tied, i).items():
-            if (sender, receiver) in self.known:
-                del self.known[(sender, receiver)]
+            way = (sender, receiver)
+            if way in self.known:
+                del self.known[way]

@@ -34,6 +34,12 @@ MODULES = {
         "best": "word sheet", "how_many_best": "word sheet", "bound_by": "word sheet tree offers",
     }),
     "keeper": (9, {"Keeper": "word sheet tree"}),
+    "rounds": (10, {"rounds": "tree", "rounds_to": "tree i"}),
+    "numbers": (11, {
+        "filling_at": "sheet number", "number_of": "sheet filling", "share_of": "sheet name worth",
+    }),
+    "texts": (12, {"sheet_text": "sheet", "read_sheet": "text"}),
+    "desk": (13, {"Desk": ""}),
 }
 # The classes' methods, with the arguments behind the object itself.
 METHODS = {
@@ -41,6 +47,7 @@ METHODS = {
         "whole": "", "rest": "i", "put": "k worths", "settle": "name worth", "free": "name", "back": "",
         "reckoned": "",
     },
+    ("desk", "Desk"): {"say": "row"},
 }
 
 

@@ -19,6 +19,11 @@ BARRED = re.compile(
     r"|dataclass|overload|contextmanager"
 )
 BARRED_STATEMENTS = (ast.Global, ast.AsyncFunctionDef, ast.AsyncFor, ast.AsyncWith, ast.Await)
+BUILTIN_METHODS = set(
+    "append clear copy count endswith extend find get index insert isalnum isalpha isdigit islower isspace isupper"
+    " items join keys ljust lower lstrip partition pop remove replace reverse rfind rjust rpartition rsplit rstrip"
+    " setdefault split splitlines startswith strip update upper values zfill bit_length isascii __init__".split()
+)
 GENERATOR_SINKS = set("list tuple dict sorted sum min max any all join".split())
 UNCALLED_SINKS = set(
     "list tuple dict sorted sum any all enumerate zip bytes min max join len reversed".split()
@@ -33,6 +38,17 @@ def files():
 def nodes():
     """All nodes of all files, each with the file's name."""
     return [(path.name, node) for path in files() for node in ast.walk(ast.parse(path.read_text()))]
+
+
+def methods():
+    """The names of all methods of the package's classes."""
+    return {part.name for name, node in nodes() if isinstance(node, ast.ClassDef)
+            for part in node.body if isinstance(part, ast.FunctionDef)}
+
+
+def attributes(kind):
+    """The names of all attributes that are assigned (ast.Store) or read (ast.Load), methods called among these."""
+    return {node.attr for name, node in nodes() if isinstance(node, ast.Attribute) and isinstance(node.ctx, kind)}
 
 
 class Files(unittest.TestCase):
@@ -169,6 +185,40 @@ class Code(unittest.TestCase):
                         changed = part.func.attr in ("append", "pop", "insert", "remove", "extend", "clear")
                         owner = getattr(part.func.value, "id", "")
                         self.assertFalse(changed and owner in through, f"{name}:{part.lineno}")
+
+
+class Classes(unittest.TestCase):
+    def test_no_name_is_a_method_and_an_attribute(self):
+        self.assertEqual(methods() & attributes(ast.Store), set())
+
+    def test_what_is_read_is_an_attribute_a_method_or_one_of_a_builtin_value(self):
+        self.assertLessEqual(attributes(ast.Load), methods() | attributes(ast.Store) | BUILTIN_METHODS)
+
+    def test_own_names_are_none_of_builtin_values(self):
+        taken = {name for value in (0, "", b"", [], (), {}, set()) for name in dir(value)}
+        own = {name for name in methods() if not name.startswith("__")} | attributes(ast.Store)
+        self.assertEqual(own & taken, set())
+
+    def test_attributes_are_assigned_through_self_or_a_parameter(self):
+        for name, node in nodes():
+            if isinstance(node, ast.FunctionDef):
+                handed = {arg.arg for arg in node.args.args}
+                for part in ast.walk(node):
+                    if isinstance(part, ast.Attribute) and isinstance(part.ctx, ast.Store):
+                        self.assertIn(getattr(part.value, "id", ""), handed, f"{name}:{part.lineno}")
+
+    def test_exponents_are_literal_and_small(self):
+        for name, node in nodes():
+            if isinstance(node, ast.BinOp) and isinstance(node.op, ast.Pow):
+                self.assertIsInstance(node.right, ast.Constant, f"{name}:{node.lineno}")
+                self.assertLessEqual(node.right.value, 64)
+
+    def test_errors_are_raised_by_their_names(self):
+        for name, node in nodes():
+            self.assertNotIsInstance(node, ast.Try, name)
+            if isinstance(node, ast.Raise):
+                self.assertIsInstance(node.exc, ast.Call, f"{name}:{node.lineno}")
+                self.assertRegex(getattr(node.exc.func, "id", ""), "^(No|Too)[A-Z][a-z]+$", f"{name}:{node.lineno}")
 
 
 if __name__ == "__main__":
